@@ -1,0 +1,173 @@
+"""What several files need: checks of arguments, sets of doors as masks, and counts of ways.
+
+A mask is an integer in which the bit 1 << door stands for a door. Sets of doors are joined and
+compared far more often than they are shown, so they are kept as masks inside the package.
+Only the checks raise errors; all other functions here take arguments that are checked already.
+"""
+
+from math import factorial
+
+from countdoors.errors import BadDoor, BadNest, BadNumbers, BadOrder, BadRanks
+
+MOST_DOORS = 9
+LAST_NUMBER = 8
+
+
+def is_integer(value, low, high):
+    """Tell whether a value is an integer from low to high; True and False are none."""
+    return isinstance(value, int) and not isinstance(value, bool) and low <= value <= high
+
+
+def is_rising(value, high):
+    """Tell whether a value is an ascending tuple of unlike integers from 0 to high."""
+    if not isinstance(value, tuple):
+        return False
+    low = 0
+    for item in value:
+        if not is_integer(item, low, high):
+            return False
+        low = item + 1
+    return True
+
+
+def is_order(nest, value):
+    """Tell whether a value is a tuple of all doors of a nest, each once."""
+    if not isinstance(value, tuple) or len(value) != len(nest):
+        return False
+    if not all([is_integer(item, 0, len(nest) - 1) for item in value]):
+        return False
+    return len(set(value)) == len(nest)
+
+
+def check_nest(nest):
+    """Raise BadNest unless a value is a nest."""
+    if not isinstance(nest, tuple) or not 1 <= len(nest) <= MOST_DOORS:
+        raise BadNest(None)
+    for door, outer in enumerate(nest):
+        if outer is not None and not is_integer(outer, door + 1, len(nest) - 1):
+            raise BadNest(door)
+
+
+def check_door(nest, door):
+    """Raise BadDoor unless a value is a door of a nest."""
+    if not is_integer(door, 0, len(nest) - 1):
+        raise BadDoor("there is no such door")
+
+
+def check_numbers(nest, numbers):
+    """Raise BadNumbers unless a value is numbers for a nest."""
+    if not isinstance(numbers, tuple) or len(numbers) != len(nest):
+        raise BadNumbers(None)
+    for door, some in enumerate(numbers):
+        if not is_rising(some, LAST_NUMBER):
+            raise BadNumbers(door)
+
+
+def check_both(nest, numbers):
+    """Raise BadNest or BadNumbers unless two values are a nest and numbers for it."""
+    check_nest(nest)
+    check_numbers(nest, numbers)
+
+
+def check_order(nest, order):
+    """Raise BadOrder unless a value is an order of a nest."""
+    if not is_order(nest, order):
+        raise BadOrder("an order is a tuple of all doors, each once")
+
+
+def check_rank(nest, door, rank):
+    """Raise BadRanks unless a value is a rank that a door of a nest can have."""
+    if not is_integer(rank, 0, ones(room_masks(nest)[door])):
+        raise BadRanks("a rank is an integer from 0 to the size of its door less 1")
+
+
+def check_ranks(nest, some):
+    """Raise BadRanks unless a value is ranks for a nest."""
+    if not isinstance(some, tuple) or len(some) != len(nest):
+        raise BadRanks("ranks are a tuple with one item for each door")
+    for door, rank in enumerate(some):
+        check_rank(nest, door, rank)
+
+
+def ones(mask):
+    """Return how many doors are in a mask."""
+    many = 0
+    while mask:
+        mask = mask & (mask - 1)
+        many = many + 1
+    return many
+
+
+def mask_of(doors):
+    """Return the mask of unlike doors."""
+    return sum([1 << door for door in doors])
+
+
+def doors_of(mask):
+    """Return the ascending tuple of the doors in a mask."""
+    return tuple([door for door in range(mask.bit_length()) if has_door(mask, door)])
+
+
+def has_door(mask, door):
+    """Tell whether a door is in a mask."""
+    return mask >> door & 1 == 1
+
+
+def room_masks(nest):
+    """Return the list of the masks of the doors inside the room of each door."""
+    rooms = [0] * len(nest)
+    # A room's doors are complete when its turn comes: all doors inside have lesser indexes.
+    for door, outer in enumerate(nest):
+        if outer is not None:
+            rooms[outer] = rooms[outer] | rooms[door] | 1 << door
+    return rooms
+
+
+def all_doors(rooms):
+    """Return the mask of all doors."""
+    return (1 << len(rooms)) - 1
+
+
+def count_ways(rooms, numbers, one, other):
+    """Return the number of ways to open the doors that other has and one has not, from one on.
+
+    The doors to be opened are a nest of their own. There the ranks of a door are its ranks
+    among all doors less the open doors inside, and all ranks are equally frequent.
+    """
+    if one & other != one:
+        return 0
+    closed = other ^ one
+    top = factorial(ones(closed))
+    bottom = 1
+    for door in doors_of(closed):
+        low = ones(one & rooms[door])
+        size = ones(closed & rooms[door]) + 1
+        top = top * len([number for number in numbers[door] if low <= number < low + size])
+        bottom = bottom * size
+    return top // bottom
+
+
+def ways_left(rooms, numbers, mask):
+    """Return the number of ways to open all doors that are not in a mask, from it on."""
+    return count_ways(rooms, numbers, mask, all_doors(rooms))
+
+
+def ready_at(rooms, numbers, mask):
+    """Return the ascending list of the doors that can be opened while those of a mask are open."""
+    closed = doors_of(all_doors(rooms) ^ mask)
+    return [door for door in closed if ones(mask & rooms[door]) in numbers[door]]
+
+
+def safe_at(rooms, numbers, mask):
+    """Return the ascending list of the ready doors behind which all doors can still be opened."""
+    return [door for door in ready_at(rooms, numbers, mask) if ways_left(rooms, numbers, mask | 1 << door)]
+
+
+def least_rest(rooms, numbers, mask):
+    """Return the least tuple of doors that opens all from a mask on; there must be one."""
+    rest = ()
+    while mask != all_doors(rooms):
+        door = safe_at(rooms, numbers, mask)[0]
+        rest = rest + (door,)
+        mask = mask | 1 << door
+    return rest

@@ -1,0 +1,59 @@
+"""The examples of the interface, as the document writes them."""
+
+import unittest
+
+from countdoors import errors
+
+EXAMPLES = '''
+>>> from countdoors.nests import around, at_once, depths, free_numbers, inside, mixings, sizes
+>>> nest = (2, 2, 4, 4, None)
+>>> [inside(nest, 4), around(nest, 0), at_once(nest, 4), sizes(nest), depths(nest), mixings(nest), free_numbers(nest)[2]]
+[(0, 1, 2, 3), (2, 4), (2, 3), (1, 1, 3, 1, 5), (2, 2, 1, 1, 0), 8, (0, 1, 2)]
+>>> from countdoors.nests import sizes
+>>> sizes((1, 1))
+raises BadNest(index=1)
+>>> from countdoors.nesttext import read_nest, write_nest
+>>> [write_nest((1, None), ((0,), (0, 1))), read_nest("2:0;2 :0; - : 1")]
+['1: 0; -: 0 1', ((2, 2, None), ((0,), (0,), (1,)))]
+>>> from countdoors.nesttext import read_nest
+>>> read_nest("-: 1 0")
+raises InvalidText(place=5)
+>>> from countdoors.orders import allows, order_count, order_inside, put_in, ranks, with_ranks
+>>> nest, numbers = (2, 2, 4, 4, None), ((0,), (0,), (1,), (0,), (0, 4))
+>>> [ranks(nest, (0, 2, 1, 4, 3)), order_inside(nest, (3, 0, 4, 2, 1), 2), with_ranks(nest, (0, 0, 2, 0, 4)), put_in(nest, (3, 0, 1, 2, 4), 4, 2), order_count(nest, numbers), allows(nest, numbers, (0, 2, 1, 3, 4))]
+[(0, 0, 1, 0, 3), (0, 2, 1), (0, 1, 2, 3, 4), (3, 0, 4, 1, 2), 16, True]
+'''
+
+
+def told(error):
+    """An error as the examples write it."""
+    fields = ", ".join(f"{name}={value!r}" for name, value in vars(error).items())
+    return f"raises {type(error).__name__}" + (f"({fields})" if fields else "")
+
+
+def answer(code, names):
+    try:
+        return repr(eval(code, names))
+    except errors.DoorError as error:
+        return told(error)
+
+
+class Examples(unittest.TestCase):
+    def test_examples(self):
+        names = {}
+        code = ""
+        answers = 0
+        for line in EXAMPLES.strip().splitlines():
+            if line.startswith(">>> "):
+                code = line.removeprefix(">>> ")
+                if code.startswith("from ") or " = " in code.split("(")[0]:
+                    exec(code, names)
+                continue
+            with self.subTest(code):
+                answers += 1
+                self.assertEqual(answer(code, names), line)
+        self.assertEqual(answers, EXAMPLES.count("\n") - EXAMPLES.count(">>> ") - 1)
+
+
+if __name__ == "__main__":
+    unittest.main()

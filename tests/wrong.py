@@ -1,0 +1,52 @@
+"""Wrong values for each kind of argument, with the error that each one calls for.
+
+They are meant for the nest (2, 2, None): doors 0, 1 and 2, sizes 1, 1 and 3.
+"""
+
+NEST = (2, 2, None)
+HUGE = 10 ** 40
+# No value of any named kind but a nest's or a text's, and no state.
+ODD = [True, False, "0", "", [], [0, 1, 2], {}, {0: 1}, -1, HUGE, -HUGE, ((((),),),)]
+
+
+def plain(name, values):
+    return [(value, name, {}) for value in values]
+
+
+def indexed(name, rows):
+    return [(value, name, {"index": index}) for value, index in rows]
+
+
+NESTS = indexed("BadNest", [
+    *[(value, None) for value in [None, 7, True, False, "2", "", [], {}, -1, HUGE, (), [2, 2, None]]],
+    ((None,) * 10, None), ((1, 2, 3, 4, 5, 6, 7, 8, 9, None), None), ((None,) * 99, None),
+    ((0,), 0), ((1,), 0), ((-1, None), 0), ((0, None), 0), ((True, None), 0), ((False, None), 0),
+    (("1", None), 0), (([], None), 0), (((1,), None), 0), (({}, None), 0), ((HUGE, None), 0),
+    ((2, None), 0), ((1, 1), 1), ((1, 0), 1), ((2, 2, 2), 2), ((2, 2, 3), 2), ((2, 1, 0), 1),
+    ((1, None, "x", True), 2), ((2, 2, True), 2), ((None, 0, None), 1), ((2, -HUGE, "x"), 1),
+    ((3, 2, None), 0), ((1, 3, None), 1), ((None,) * 8 + (9,), 8), ((9,) + (None,) * 8, 0),
+])
+NUMBERS = indexed("BadNumbers", [
+    *[(value, None) for value in [None, *ODD, (), ((),), ((0,), (0,)), ((0,),) * 4, [(0,), (0,), (1,)]]],
+    (((0,), (0,), None), 2), ((0, (0,), (1,)), 0), (((0,), [0], (1,)), 1), (((0,), "0", (1,)), 1),
+    (((0,), {}, (1,)), 1), (((0,), (0,), (1, 1)), 2), (((0,), (0,), (2, 1)), 2),
+    (((0,), (0,), (9,)), 2), (((-1,), (0,), (1,)), 0), (((0,), (True,), (1,)), 1),
+    (((0,), (0,), (False, 1)), 2), (((0,), (0,), ("1",)), 2), (((0,), (0,), (None,)), 2),
+    (((0,), (0,), ((1,),)), 2), (((0,), (0,), ([],)), 2), (((0,), (HUGE,), (1, 1)), 1),
+    (((0,), (0,), (0, 1, 2, 3, 4, 5, 6, 7, 8, 9)), 2), (((0,), (3, 2), (9,)), 1),
+    (((0, 0), (0,), (1,)), 0), (((0,), (0,), (1, 0)), 2),
+])
+DOORS = plain("BadDoor", [None, *ODD, 3, 9, (0,), [0], (), "None"])
+INNER = plain("BadDoor", [*ODD, 3, 9, (0,), [0], (), "None"])
+ORDERS = plain("BadOrder", [
+    None, *ODD, 0, (), (0,), (0, 1), (0, 1, 2, 3), (0, 0, 1), (0, 1, 1), (2, 2, 2), (1, 2, 3),
+    (-1, 0, 1), (0, 1, "2"), (0, 1, None), (0, True, 2), (False, 1, 2), (0, 1, (2,)), (0, 1, [2]),
+    (0, 1, {}), (0, 1, HUGE), (0, 1, 2, 2), "012",
+])
+RANKS = plain("BadRanks", [
+    None, *ODD, 0, (), (0,), (0, 0), (0, 0, 0, 0), (1, 0, 0), (0, 1, 0), (0, 0, 3), (0, 0, -1),
+    (0, 0, HUGE), (0, 0, True), (False, 0, 0), (0, 0, None), (0, 0, "1"), (0, 0, (1,)), (0, 0, [1]),
+])
+# For door 2, of size 3.
+RANK_OF_2 = plain("BadRanks", [None, *ODD, 3, 9, (0,), (), [1]])
+TEXTS = plain("NotText", [None, True, False, 0, 5, -1, HUGE, [], ["-:"], (), ("-:",), {}, {"-": 1}])
