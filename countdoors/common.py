@@ -1,13 +1,13 @@
-"""What several files need: checks of arguments, sets of doors as masks, and counts of ways.
+"""What several files need: checks of arguments, sets of doors as masks, counts of ways, ratios.
 
 A mask is an integer in which the bit 1 << door stands for a door. Sets of doors are joined and
 compared far more often than they are shown, so they are kept as masks inside the package.
 Only the checks raise errors; all other functions here take arguments that are checked already.
 """
 
-from math import factorial
+from math import factorial, gcd
 
-from countdoors.errors import BadDoor, BadNest, BadNumbers, BadOrder, BadRanks
+from countdoors.errors import BadCount, BadDoor, BadNest, BadNumbers, BadOrder, BadRanks, BadState
 
 MOST_DOORS = 9
 LAST_NUMBER = 8
@@ -87,6 +87,18 @@ def check_ranks(nest, some):
         raise BadRanks("ranks are a tuple with one item for each door")
     for door, rank in enumerate(some):
         check_rank(nest, door, rank)
+
+
+def check_state(nest, state):
+    """Raise BadState unless a value is a state of a nest."""
+    if not is_rising(state, len(nest) - 1):
+        raise BadState("a state is an ascending tuple of doors")
+
+
+def check_count(value, low, high):
+    """Raise BadCount unless a value is an integer from low to high."""
+    if not is_integer(value, low, high):
+        raise BadCount("a count is an integer within its limits")
 
 
 def ones(mask):
@@ -171,3 +183,9 @@ def least_rest(rooms, numbers, mask):
         rest = rest + (door,)
         mask = mask | 1 << door
     return rest
+
+
+def ratio(top, bottom):
+    """Return the ratio of an integer to a positive one."""
+    common = gcd(top, bottom)
+    return top // common, bottom // common

@@ -22,6 +22,30 @@ raises InvalidText(place=5)
 >>> nest, numbers = (2, 2, 4, 4, None), ((0,), (0,), (1,), (0,), (0, 4))
 >>> [ranks(nest, (0, 2, 1, 4, 3)), order_inside(nest, (3, 0, 4, 2, 1), 2), with_ranks(nest, (0, 0, 2, 0, 4)), put_in(nest, (3, 0, 1, 2, 4), 4, 2), order_count(nest, numbers), allows(nest, numbers, (0, 2, 1, 3, 4))]
 [(0, 0, 1, 0, 3), (0, 2, 1), (0, 1, 2, 3, 4), (3, 0, 4, 1, 2), 16, True]
+>>> from countdoors.listing import all_orders, closed_in, next_order, order_at, order_number, widened
+>>> chain, some = (1, 2, None), ((0,), (0, 1), (1,))
+>>> [all_orders(chain, some), order_number(chain, some, (1, 2, 0)), order_at(chain, some, 0), next_order(chain, some, (0, 2, 1)), widened(chain, some, 2, 0)[2], closed_in((None,), ((0,),), (1,))]
+[[(0, 2, 1), (1, 2, 0)], 1, (0, 2, 1), (1, 2, 0), (0, 1), ((1, None), ((0,), (1,)))]
+>>> from countdoors.states import lost_door, next_chances, open_inside, ready, safe_next, ways_on
+>>> nest, numbers = (2, 2, None), ((0,), (0,), (1,))
+>>> [open_inside(nest, (0, 2)), ready(nest, numbers, (0,)), ways_on(nest, numbers, ()), lost_door(nest, numbers, (0, 1)), safe_next(nest, numbers, (0,)), next_chances(nest, numbers, ())]
+[(0, 0, 1), (1, 2), 2, 2, (2,), ((1, 2), (1, 2), (0, 1))]
+>>> from countdoors.states import first_lost, is_safe, last_states, met_count, ways_between
+>>> nest, numbers = (2, 2, None), ((0,), (0,), (1,))
+>>> [ways_between(nest, numbers, (), (0, 1)), met_count(nest, numbers), last_states(nest, numbers), is_safe(nest, numbers), first_lost(nest, numbers)]
+[2, 7, ((0, 1), (0, 1, 2)), False, (2, (0, 1))]
+>>> from countdoors.times import ahead_chance, mean_times, time_chances
+>>> nest, numbers = (2, 2, None), ((0,), (0,), (0, 2))
+>>> [time_chances(nest, numbers, (), 0), mean_times(nest, numbers, (0,)), ahead_chance(nest, numbers, (), 0, 2)]
+[((1, 4), (1, 2), (1, 4)), (None, (1, 1), (2, 1)), (1, 2)]
+>>> from countdoors.sums import mean_sum, rest_counts, sum_counts, with_sum
+>>> chain, free = (1, 2, None), ((0,), (0, 1), (0, 1, 2))
+>>> [sum_counts(chain, free), rest_counts(chain, free, 3), mean_sum(chain, free), with_sum(chain, free, 1)]
+[(1, 2, 2, 1), (2, 2, 2), ((3, 2), (11, 12)), (1, 2, 0)]
+>>> from countdoors.telling import least_numbers, parting, parting_doors, shows_third, told_count
+>>> nest, told = (2, 2, None), ((0, 1, 2), (0, 2, 1))
+>>> [least_numbers(nest, told), told_count(nest, told), shows_third(nest, told, (1, 0, 2)), parting(nest, told[:1], told[1:]), parting_doors(nest, told[:1], told[1:])]
+[((0,), (0,), (1, 2)), 4, True, ((0,), (0,), (2,)), ((2,),)]
 '''
 
 

@@ -15,6 +15,29 @@ INTERFACE = {
         "ranks(nest, order)", "order_inside(nest, order, door)", "with_ranks(nest, some)",
         "put_in(nest, order, door, rank)", "allows(nest, numbers, order)", "order_count(nest, numbers)",
     ],
+    "listing": [
+        "order_number(nest, numbers, order)", "order_at(nest, numbers, index)", "next_order(nest, numbers, order)",
+        "all_orders(nest, numbers)", "widened(nest, numbers, door, number)", "closed_in(nest, numbers, some)",
+    ],
+    "states": [
+        "open_inside(nest, state)", "ready(nest, numbers, state)", "safe_next(nest, numbers, state)",
+        "ways_on(nest, numbers, state)", "lost_door(nest, numbers, state)",
+        "shows_lost(nest, numbers, state, value)", "next_chances(nest, numbers, state)",
+        "ways_between(nest, numbers, one, other)", "met_count(nest, numbers)", "last_states(nest, numbers)",
+        "is_safe(nest, numbers)", "first_lost(nest, numbers)",
+    ],
+    "times": [
+        "time_chances(nest, numbers, state, door)", "mean_times(nest, numbers, state)",
+        "ahead_chance(nest, numbers, state, one, other)",
+    ],
+    "sums": [
+        "sum_counts(nest, numbers)", "rest_counts(nest, numbers, many)", "mean_sum(nest, numbers)",
+        "with_sum(nest, numbers, total)",
+    ],
+    "telling": [
+        "least_numbers(nest, told)", "told_count(nest, told)", "third_order(nest, told)",
+        "shows_third(nest, told, value)", "parting(nest, yes, no)", "parting_doors(nest, yes, no)",
+    ],
 }
 
 

@@ -21,7 +21,7 @@ STATEMENTS = (
     ast.Expr, ast.FunctionDef, ast.ClassDef, ast.ImportFrom,
 )
 UNUSED = (
-    ast.GeneratorExp, ast.Lambda, ast.Await, ast.Yield, ast.YieldFrom, ast.SetComp, ast.Set,
+    ast.GeneratorExp, ast.Lambda, ast.Await, ast.Yield, ast.YieldFrom, ast.Set,
     ast.Div, ast.MatMult, ast.Pow, ast.Starred, ast.NamedExpr,
 )
 
@@ -127,6 +127,14 @@ class Language(unittest.TestCase):
             for node in ast.walk(tree):
                 if isinstance(node, ast.Call) and isinstance(node.func, ast.Attribute):
                     self.assertIn(node.func.attr, METHODS, f"{path.name}:{node.lineno}")
+
+    def test_sets_are_sorted_or_counted_on_the_spot(self):
+        for path, tree in trees():
+            calls = [node for node in ast.walk(tree) if isinstance(node, ast.Call) and isinstance(node.func, ast.Name)]
+            taken = [node.args[0] for node in calls if node.func.id in ("sorted", "len") and not node.keywords]
+            sets = [node for node in ast.walk(tree) if isinstance(node, ast.SetComp)]
+            sets += [node for node in calls if node.func.id == "set"]
+            self.assertEqual([node.lineno for node in sets if node not in taken], [], path.name)
 
     def test_percent_signs(self):
         for path, tree in trees():

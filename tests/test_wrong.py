@@ -3,7 +3,7 @@
 import copy
 import unittest
 
-from countdoors import errors, nests, nesttext, orders
+from countdoors import errors, listing, nests, nesttext, orders, states, sums, telling, times
 
 from tests import wrong
 
@@ -15,6 +15,10 @@ NEST_ARG = (NEST, wrong.NESTS)
 NUMBERS_ARG = (SOME, wrong.NUMBERS)
 ORDER_ARG = (ORDER, wrong.ORDERS)
 DOOR_ARG = (2, wrong.DOORS)
+STATE_ARG = ((1,), wrong.STATES)
+CLOSED_ARG = (2, wrong.CLOSED)
+TOLD_ARG = (((0, 1, 2), (0, 2, 1)), wrong.TOLD)
+HOUSE = [NEST_ARG, NUMBERS_ARG]
 CALLS = [
     (nests.inside, [NEST_ARG, DOOR_ARG]),
     (nests.around, [NEST_ARG, DOOR_ARG]),
@@ -34,6 +38,37 @@ CALLS = [
     (orders.order_count, [NEST_ARG, NUMBERS_ARG]),
     (orders.with_ranks, [NEST_ARG, ((0, 0, 2), wrong.RANKS)]),
     (orders.put_in, [NEST_ARG, ORDER_ARG, DOOR_ARG, (1, wrong.RANK_OF_2)]),
+    (listing.order_number, [*HOUSE, ORDER_ARG]),
+    (listing.order_at, [*HOUSE, (3, wrong.INDEXES)]),
+    (listing.next_order, [*HOUSE, ORDER_ARG]),
+    (listing.all_orders, HOUSE),
+    (listing.widened, [*HOUSE, DOOR_ARG, (8, wrong.NUMBER)]),
+    (listing.closed_in, [*HOUSE, ((), wrong.NEW_NUMBERS)]),
+    (states.open_inside, [NEST_ARG, STATE_ARG]),
+    (states.ready, [*HOUSE, STATE_ARG]),
+    (states.ways_on, [*HOUSE, STATE_ARG]),
+    (states.lost_door, [*HOUSE, STATE_ARG]),
+    (states.shows_lost, [*HOUSE, STATE_ARG, (None, [])]),
+    (states.next_chances, [*HOUSE, STATE_ARG]),
+    (states.safe_next, [*HOUSE, STATE_ARG]),
+    (states.ways_between, [*HOUSE, STATE_ARG, STATE_ARG]),
+    (states.met_count, HOUSE),
+    (states.last_states, HOUSE),
+    (states.is_safe, HOUSE),
+    (states.first_lost, HOUSE),
+    (times.time_chances, [*HOUSE, STATE_ARG, CLOSED_ARG]),
+    (times.mean_times, [*HOUSE, STATE_ARG]),
+    (times.ahead_chance, [*HOUSE, STATE_ARG, CLOSED_ARG, (0, wrong.FURTHER)]),
+    (sums.sum_counts, HOUSE),
+    (sums.rest_counts, [*HOUSE, (3, wrong.MANY)]),
+    (sums.mean_sum, HOUSE),
+    (sums.with_sum, [*HOUSE, (36, wrong.TOTALS)]),
+    (telling.least_numbers, [NEST_ARG, TOLD_ARG]),
+    (telling.told_count, [NEST_ARG, TOLD_ARG]),
+    (telling.third_order, [NEST_ARG, TOLD_ARG]),
+    (telling.shows_third, [NEST_ARG, TOLD_ARG, (None, [])]),
+    (telling.parting, [NEST_ARG, TOLD_ARG, TOLD_ARG]),
+    (telling.parting_doors, [NEST_ARG, TOLD_ARG, TOLD_ARG]),
 ]
 
 
@@ -69,7 +104,7 @@ class Wrong(unittest.TestCase):
                     values = [right for right, _ in arguments]
                     values[at] = value
                     for further in range(at + 1, len(arguments)):
-                        others = arguments[further][1]
+                        others = arguments[further][1] or [[5]]
                         values[further] = others[turn % len(others)][0]
                     self.expect(function, values, name, fields)
 
@@ -77,11 +112,27 @@ class Wrong(unittest.TestCase):
         for function, arguments in CALLS:
             for at in range(len(arguments)):
                 for further in range(at + 1, len(arguments)):
+                    for value, name, fields in arguments[at][1][:1]:
+                        values = [right for right, _ in arguments]
+                        values[at] = value
+                        values[further] = (arguments[further][1] or [[5]])[0][0]
+                        self.expect(function, values, name, fields)
+
+    def test_too_many_behind_all(self):
+        nine = (None,) * 9
+        zeros = ((0,),) * 9
+        too_many = [
+            (listing.all_orders, [(nine, wrong.NESTS), (zeros, [])], 2000),
+            (listing.closed_in, [(nine, wrong.NESTS), (zeros, []), ((0,), wrong.NEW_NUMBERS)], 9),
+        ]
+        for function, arguments, most in too_many:
+            self.expect(function, [right for right, _ in arguments], "TooMany", {"most": most})
+            for at, (_, wrongs) in enumerate(arguments):
+                for value, name, fields in wrongs:
                     values = [right for right, _ in arguments]
-                    value, name, fields = arguments[at][1][0]
                     values[at] = value
-                    values[further] = arguments[further][1][0][0]
                     self.expect(function, values, name, fields)
+            self.expect(function, [nine, zeros[:8] + ((9,),), *[(0,) for _ in arguments[2:]]], "BadNumbers", {"index": 8})
 
 
 if __name__ == "__main__":

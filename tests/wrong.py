@@ -50,3 +50,32 @@ RANKS = plain("BadRanks", [
 # For door 2, of size 3.
 RANK_OF_2 = plain("BadRanks", [None, *ODD, 3, 9, (0,), (), [1]])
 TEXTS = plain("NotText", [None, True, False, 0, 5, -1, HUGE, [], ["-:"], (), ("-:",), {}, {"-": 1}])
+STATES = plain("BadState", [
+    None, *ODD, 0, (3,), (0, 3), (-1,), (0, 0), (1, 0), (2, 1), (0, 1, 1), (0, 1, 2, 3), (0, 1, 2, 2), (HUGE,),
+    (True,), (False,), (0, True), (None,), ("0",), ((0,),), ([],), ({},), (0, None), [0], "0",
+])
+# For four allowed orders.
+INDEXES = plain("BadIndex", [None, *ODD, 4, 5, (), (0,), [0]])
+NUMBER = plain("BadIndex", [None, *ODD, 9, (), (0,), [0]])
+NEW_NUMBERS = indexed("BadNumbers", [
+    (value, None) for value in [
+        None, *ODD, 0, (9,), (0, 9), (-1,), (0, 0), (1, 0), (True,), (False,), (None,), ("0",), ((0,),), ([],),
+        (0, HUGE), (0, 1, 2, 3, 4, 5, 6, 7, 8, 9), ((0,), (0,), (1,)),
+    ]
+])
+# For the state (1,).
+CLOSED = DOORS + plain("BadDoor", [1])
+# For a second door beside door 2.
+FURTHER = CLOSED + plain("BadDoor", [2])
+MANY = plain("BadCount", [None, *ODD, 0, 10, (), (1,), [1]])
+TOTALS = plain("BadCount", [None, *ODD, 37, 100, (), (1,), [1]])
+LONG = tuple([(0, 1, 2), (0, 2, 1), (1, 0, 2), (1, 2, 0), (2, 0, 1), (2, 1, 0)])
+TOLD = plain("BadTold", [
+    None, *ODD, 0, (), (0, 1, 2), [(0, 1, 2)], ([0, 1, 2],), ((0, 1),), ((0, 1, 2, 2),), ((0, 0, 1),), (None,),
+    ((0, 1, True),), ((False, 1, 2),), ((0, 1, 3),), ((0, 1, 2), None), ((0, 1, 2), (0, 1, 2)),
+    ((0, 2, 1), (0, 1, 2)), ((0, 1, 2), (2, 1, 0), (1, 0, 2)), ("012",), ((0, 1, "2"),), LONG * 2, LONG + LONG + LONG,
+    ((0, 1, 2), (1, 0, [])), ({},), ((0, 1, 2), HUGE), ((), (0, 1, 2)),
+])
+# Values that are no answer, whatever the question was.
+NO_ANSWERS = [*ODD, (), [], (0,), (None,), ("0",), 3, 9, "None", ((0, 1, 2),), (0, 1), (0, 1, 2, 3), [0, 1, 2], (0, 1, "2"),
+              (False, True, 2), (False, 1, 2), (0, 0, 0), (0, 1, []), {"a": [1]}, (0, 1, HUGE)]
