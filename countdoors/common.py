@@ -7,10 +7,13 @@ Only the checks raise errors; all other functions here take arguments that are c
 
 from math import factorial, gcd
 
-from countdoors.errors import BadCount, BadDoor, BadNest, BadNumbers, BadOrder, BadRanks, BadState
+from countdoors.errors import (
+    BadCount, BadDoor, BadNest, BadNumbers, BadOrder, BadRanks, BadState, BadTold,
+)
 
 MOST_DOORS = 9
 LAST_NUMBER = 8
+MOST_TOLD = 12
 
 
 def is_integer(value, low, high):
@@ -30,13 +33,20 @@ def is_rising(value, high):
     return True
 
 
-def is_order(nest, value):
-    """Tell whether a value is a tuple of all doors of a nest, each once."""
-    if not isinstance(value, tuple) or len(value) != len(nest):
+def is_order(many, value):
+    """Tell whether a value is a tuple of so many doors, from 0 on, each once."""
+    if not isinstance(value, tuple) or len(value) != many:
         return False
-    if not all([is_integer(item, 0, len(nest) - 1) for item in value]):
+    if not all([is_integer(item, 0, many - 1) for item in value]):
         return False
-    return len(set(value)) == len(nest)
+    return len(set(value)) == many
+
+
+def are_orders(many, value):
+    """Tell whether a value is an ascending tuple of unlike orders of so many doors."""
+    if not isinstance(value, tuple) or not all([is_order(many, item) for item in value]):
+        return False
+    return all([order < further for order, further in zip(value, value[1:])])
 
 
 def check_nest(nest):
@@ -71,7 +81,7 @@ def check_both(nest, numbers):
 
 def check_order(nest, order):
     """Raise BadOrder unless a value is an order of a nest."""
-    if not is_order(nest, order):
+    if not is_order(len(nest), order):
         raise BadOrder("an order is a tuple of all doors, each once")
 
 
@@ -93,6 +103,12 @@ def check_state(nest, state):
     """Raise BadState unless a value is a state of a nest."""
     if not is_rising(state, len(nest) - 1):
         raise BadState("a state is an ascending tuple of doors")
+
+
+def check_told(many, told):
+    """Raise BadTold unless a value is an ascending tuple of 1 to 12 unlike orders of so many doors."""
+    if not are_orders(many, told) or not 1 <= len(told) <= MOST_TOLD:
+        raise BadTold("told orders are an ascending tuple of 1 to 12 unlike orders")
 
 
 def check_count(value, low, high):
@@ -138,6 +154,11 @@ def room_masks(nest):
 def all_doors(rooms):
     """Return the mask of all doors."""
     return (1 << len(rooms)) - 1
+
+
+def masks_over(rooms, mask):
+    """Return the list of all masks that hold a mask, those with more doors before those without them."""
+    return [more for more in range(all_doors(rooms), mask - 1, -1) if more & mask == mask]
 
 
 def count_ways(rooms, numbers, one, other):

@@ -1,17 +1,14 @@
 """Numbers told by orders that they allow."""
 
-from countdoors.common import check_nest, is_order
-from countdoors.errors import BadTold
+from countdoors.common import check_nest, check_told, is_order
 from countdoors.listing import next_order, order_at
 from countdoors.orders import allows, order_count, ranks
-
-MOST_TOLD = 12
 
 
 def least_numbers(nest, told):
     """Return the numbers, as few as can be, that allow all told orders."""
     check_nest(nest)
-    check_told(nest, told)
+    check_told(len(nest), told)
     rows = [ranks(nest, order) for order in told]
     return tuple([ranks_of(rows, door) for door in range(len(nest))])
 
@@ -35,14 +32,14 @@ def shows_third(nest, told, value):
     numbers = least_numbers(nest, told)
     if value is None:
         return order_count(nest, numbers) == len(told)
-    return is_order(nest, value) and value not in told and allows(nest, numbers, value)
+    return is_order(len(nest), value) and value not in told and allows(nest, numbers, value)
 
 
 def parting(nest, yes, no):
     """Return the least numbers that allow told orders, None if they allow one of other told orders."""
     check_nest(nest)
-    check_told(nest, yes)
-    check_told(nest, no)
+    check_told(len(nest), yes)
+    check_told(len(nest), no)
     numbers = least_numbers(nest, yes)
     if any([allows(nest, numbers, order) for order in no]):
         return None
@@ -52,20 +49,10 @@ def parting(nest, yes, no):
 def parting_doors(nest, yes, no):
     """Return, for each order of no, the ascending tuple of the doors whose rank no order of yes has."""
     check_nest(nest)
-    check_told(nest, yes)
-    check_told(nest, no)
+    check_told(len(nest), yes)
+    check_told(len(nest), no)
     numbers = least_numbers(nest, yes)
     return tuple([doors_apart(numbers, ranks(nest, order)) for order in no])
-
-
-def check_told(nest, told):
-    """Raise BadTold unless a value is told orders of a nest."""
-    if not isinstance(told, tuple) or not 1 <= len(told) <= MOST_TOLD:
-        raise BadTold("told orders are a tuple of 1 to 12 orders")
-    if not all([is_order(nest, order) for order in told]):
-        raise BadTold("told orders are orders of the nest")
-    if not all([order < further for order, further in zip(told, told[1:])]):
-        raise BadTold("told orders ascend")
 
 
 def ranks_of(rows, door):

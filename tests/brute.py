@@ -106,3 +106,30 @@ def all_states(nest):
 def ratio(top, bottom=1):
     value = Fraction(top, bottom)
     return value.numerator, value.denominator
+
+
+def ready(nest, numbers, state):
+    return [door for door in range(len(nest)) if can_open(nest, numbers, state, door)]
+
+
+def further(state, door):
+    return tuple(sorted((*state, door)))
+
+
+def is_number(value, low, high):
+    return type(value) is int and low <= value <= high
+
+
+def is_state(nest, value):
+    return type(value) is tuple and all(is_number(door, 0, len(nest) - 1) for door in value) \
+        and list(value) == sorted(set(value))
+
+
+def is_order(nest, value):
+    return type(value) is tuple and all(is_number(door, 0, len(nest) - 1) for door in value) \
+        and sorted(value) == list(range(len(nest)))
+
+
+def ascends(values):
+    """Whether values ascend, each unlike the one before it."""
+    return all(one < other for one, other in zip(values, values[1:]))

@@ -46,6 +46,28 @@ raises InvalidText(place=5)
 >>> nest, told = (2, 2, None), ((0, 1, 2), (0, 2, 1))
 >>> [least_numbers(nest, told), told_count(nest, told), shows_third(nest, told, (1, 0, 2)), parting(nest, told[:1], told[1:]), parting_doors(nest, told[:1], told[1:])]
 [((0,), (0,), (1, 2)), 4, True, ((0,), (0,), (2,)), ((2,),)]
+>>> from countdoors.wishing import covering, numbers_with, shows_covering, shows_numbers_with
+>>> chain = (1, 2, None)
+>>> [numbers_with((2, 2, None), 6), numbers_with(chain, 5), shows_numbers_with(chain, 4, ((0,), (0, 1), (0, 2))), len(covering(chain, ((0,), (0, 1), (0, 2)))), shows_covering(chain, ((0,), (0, 1), (0, 2)), ((0, 1, 2), (2, 1, 0)))]
+[((0,), (0,), (0, 1, 2)), None, True, 2, True]
+>>> from countdoors.hands import last_hand, winning_doors, worth
+>>> nest, numbers = (2, 2, None), ((0,), (0,), (1,))
+>>> [last_hand(nest, numbers, ()), winning_doors(nest, numbers, (0,)), worth(nest, numbers, (0,))]
+[False, (1,), 2]
+>>> from countdoors.keepers import end_value, keeper_plan, kept_open, shows_plan
+>>> nest, numbers = (2, 2, None), ((0,), (0,), (1,))
+>>> [kept_open(nest, numbers, (), True), kept_open(nest, numbers, (), False), keeper_plan(nest, numbers, False), end_value(nest, numbers, (), True), shows_plan(nest, numbers, True, None)]
+[False, True, (((0,), 2), ((1,), 2)), 2, True]
+>>> from countdoors.leaving import leave_count, leavers, leaving_nest, payments, ring_count, ring_payments, rounds, stays
+>>> heights = (9, 2, 5, 1, 8, 3, 7)
+>>> [stays(heights), leavers(heights), leaving_nest(heights), leave_count(heights), payments(heights), rounds(heights), ring_count((3, 1, 2)), ring_payments((3, 1, 2))]
+[(0, 4, 6), (3, 1, 5, 2), (3, 3, None, None), 8, (None, 3, 3, 4, None, 4, None), (None, 1, 2, 1, None, 1, None), 1, (None, 1, 1)]
+>>> from countdoors.leaving import stays
+>>> stays((1, 1))
+raises BadRow
+>>> from countdoors.allrows import mean_paid, orders_in_all, rows_by_rounds, rows_by_stays
+>>> [rows_by_stays(3), rows_by_rounds(3), orders_in_all(4), mean_paid(3)]
+[(0, 2, 4), (4, 2, 0, 0), 24, (1, 3)]
 '''
 
 

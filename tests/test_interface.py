@@ -38,6 +38,20 @@ INTERFACE = {
         "least_numbers(nest, told)", "told_count(nest, told)", "third_order(nest, told)",
         "shows_third(nest, told, value)", "parting(nest, yes, no)", "parting_doors(nest, yes, no)",
     ],
+    "wishing": [
+        "numbers_with(nest, count)", "shows_numbers_with(nest, count, value)", "covering(nest, numbers)",
+        "shows_covering(nest, numbers, value)",
+    ],
+    "hands": ["last_hand(nest, numbers, state)", "winning_doors(nest, numbers, state)", "worth(nest, numbers, state)"],
+    "keepers": [
+        "kept_open(nest, numbers, state, is_first)", "keeper_plan(nest, numbers, is_first)",
+        "shows_plan(nest, numbers, is_first, value)", "end_value(nest, numbers, state, is_first)",
+    ],
+    "leaving": [
+        "stays(row)", "leavers(row)", "leaving_nest(row)", "leave_count(row)", "is_leaving(row, order)",
+        "payments(row)", "rounds(row)", "ring_payments(ring)", "ring_count(ring)",
+    ],
+    "allrows": ["rows_by_stays(n)", "rows_by_rounds(n)", "orders_in_all(n)", "mean_paid(n)"],
 }
 
 

@@ -12,8 +12,8 @@ PACKAGE = Path(__file__).resolve().parent.parent / "countdoors"
 FILES = sorted(PACKAGE.glob("*.py"))
 CALLED = set("""len range enumerate zip min max sum abs sorted reversed int str bool list tuple dict set
 isinstance any all divmod""".split())
-LIBRARY = {"math": {"factorial", "gcd"}}
-METHODS = {"append", "bit_length", "join"}
+LIBRARY = {"math": {"comb", "factorial", "gcd"}}
+METHODS = {"append", "bit_length", "get", "index", "items", "join", "values"}
 BARRED = set("""register mro elements open input law type typing enum compile copyright dir eval exec exit
 globals help id license locals quit vars""".split())
 STATEMENTS = (

@@ -3,7 +3,9 @@
 import copy
 import unittest
 
-from countdoors import errors, listing, nests, nesttext, orders, states, sums, telling, times
+from countdoors import (
+    allrows, errors, hands, keepers, leaving, listing, nests, nesttext, orders, states, sums, telling, times, wishing,
+)
 
 from tests import wrong
 
@@ -18,6 +20,11 @@ DOOR_ARG = (2, wrong.DOORS)
 STATE_ARG = ((1,), wrong.STATES)
 CLOSED_ARG = (2, wrong.CLOSED)
 TOLD_ARG = (((0, 1, 2), (0, 2, 1)), wrong.TOLD)
+COUNT_ARG = (4, wrong.COUNTS)
+FLAG_ARG = (True, wrong.FLAGS)
+ROW_ARG = ((9, 2, 5, 1, 8, 3, 7), wrong.ROWS)
+N_ARG = (9, wrong.MANY)
+VALUE_ARG = (None, [])
 HOUSE = [NEST_ARG, NUMBERS_ARG]
 CALLS = [
     (nests.inside, [NEST_ARG, DOOR_ARG]),
@@ -48,7 +55,7 @@ CALLS = [
     (states.ready, [*HOUSE, STATE_ARG]),
     (states.ways_on, [*HOUSE, STATE_ARG]),
     (states.lost_door, [*HOUSE, STATE_ARG]),
-    (states.shows_lost, [*HOUSE, STATE_ARG, (None, [])]),
+    (states.shows_lost, [*HOUSE, STATE_ARG, VALUE_ARG]),
     (states.next_chances, [*HOUSE, STATE_ARG]),
     (states.safe_next, [*HOUSE, STATE_ARG]),
     (states.ways_between, [*HOUSE, STATE_ARG, STATE_ARG]),
@@ -66,9 +73,33 @@ CALLS = [
     (telling.least_numbers, [NEST_ARG, TOLD_ARG]),
     (telling.told_count, [NEST_ARG, TOLD_ARG]),
     (telling.third_order, [NEST_ARG, TOLD_ARG]),
-    (telling.shows_third, [NEST_ARG, TOLD_ARG, (None, [])]),
+    (telling.shows_third, [NEST_ARG, TOLD_ARG, VALUE_ARG]),
     (telling.parting, [NEST_ARG, TOLD_ARG, TOLD_ARG]),
     (telling.parting_doors, [NEST_ARG, TOLD_ARG, TOLD_ARG]),
+    (wishing.numbers_with, [NEST_ARG, COUNT_ARG]),
+    (wishing.shows_numbers_with, [NEST_ARG, COUNT_ARG, VALUE_ARG]),
+    (wishing.covering, HOUSE),
+    (wishing.shows_covering, [*HOUSE, VALUE_ARG]),
+    (hands.last_hand, [*HOUSE, STATE_ARG]),
+    (hands.winning_doors, [*HOUSE, STATE_ARG]),
+    (hands.worth, [*HOUSE, STATE_ARG]),
+    (keepers.kept_open, [*HOUSE, STATE_ARG, FLAG_ARG]),
+    (keepers.keeper_plan, [*HOUSE, FLAG_ARG]),
+    (keepers.shows_plan, [*HOUSE, FLAG_ARG, VALUE_ARG]),
+    (keepers.end_value, [*HOUSE, STATE_ARG, FLAG_ARG]),
+    (leaving.stays, [ROW_ARG]),
+    (leaving.leavers, [ROW_ARG]),
+    (leaving.leaving_nest, [ROW_ARG]),
+    (leaving.leave_count, [ROW_ARG]),
+    (leaving.is_leaving, [ROW_ARG, ((3, 1, 2, 5), wrong.LEAVINGS)]),
+    (leaving.payments, [ROW_ARG]),
+    (leaving.rounds, [ROW_ARG]),
+    (leaving.ring_count, [ROW_ARG]),
+    (leaving.ring_payments, [ROW_ARG]),
+    (allrows.rows_by_stays, [N_ARG]),
+    (allrows.rows_by_rounds, [N_ARG]),
+    (allrows.orders_in_all, [N_ARG]),
+    (allrows.mean_paid, [N_ARG]),
 ]
 
 

@@ -76,6 +76,39 @@ TOLD = plain("BadTold", [
     ((0, 2, 1), (0, 1, 2)), ((0, 1, 2), (2, 1, 0), (1, 0, 2)), ("012",), ((0, 1, "2"),), LONG * 2, LONG + LONG + LONG,
     ((0, 1, 2), (1, 0, [])), ({},), ((0, 1, 2), HUGE), ((), (0, 1, 2)),
 ])
+COUNTS = plain("BadCount", [None, *ODD, 0, 1000001, (), (1,), [1]])
+FLAGS = plain("BadFlag", [None, *[value for value in ODD if not isinstance(value, bool)], 0, 1, "True", (), (True,)])
+ROWS = plain("BadRow", [
+    None, *ODD, 0, 5, (), [1], [1, 2], "12", (1, 1), (5, 1, 5), (0, 100), (-1, 0), (HUGE,), (1, HUGE), (True,), (False, 1),
+    (1, None), (1, "2"), (1, (2,)), (1, [2]), (1, {}), (0, 1, 2, 3, 4, 5, 6, 7, 8, 9), (None,), ("5",), (1, 2, -HUGE),
+])
+# For the row (9, 2, 5, 1, 8, 3, 7).
+LEAVINGS = plain("BadOrder", [
+    None, *ODD, 0, (), (3,), (3, 1, 5), (3, 1, 5, 5), (3, 1, 5, 2, 2), (3, 1, 5, 0), (3, 1, 5, 2, 0), (3, True, 5, 2),
+    (3, 1, 5, "2"), (3, 1, 5, None), (3, 1, 5, (2,)), (3, 1, 5, [2]), (3, 1, 5, -2), (3, 1, 5, 7), (3, 1, 5, HUGE),
+    [3, 1, 5, 2], "3152", (0, 1, 2, 3, 4, 5, 6), (0, 1, 2, 3),
+])
 # Values that are no answer, whatever the question was.
 NO_ANSWERS = [*ODD, (), [], (0,), (None,), ("0",), 3, 9, "None", ((0, 1, 2),), (0, 1), (0, 1, 2, 3), [0, 1, 2], (0, 1, "2"),
               (False, True, 2), (False, 1, 2), (0, 0, 0), (0, 1, []), {"a": [1]}, (0, 1, HUGE)]
+
+
+def bends(value):
+    """Values a little unlike a value: items left out, exchanged, put in, or of another kind."""
+    if not isinstance(value, tuple):
+        yield from [None, str(value), [value], (value,), {}, ()]
+        if isinstance(value, int):
+            yield from [value + 1, value - 1, -value, HUGE]
+            if value in (0, 1):
+                yield bool(value)
+        return
+    yield list(value)
+    yield value[::-1]
+    for at, item in enumerate(value):
+        yield value[:at] + value[at + 1:]
+        yield value[:at] + (item,) + value[at:]
+        yield value[:at] + value[at + 1:at + 2] + (item,) + value[at + 2:]
+        for bent in bends(item):
+            yield value[:at] + (bent,) + value[at + 1:]
+    for more in [None, 0, (), value]:
+        yield value + (more,)
