@@ -16,9 +16,14 @@ LAST_NUMBER = 8
 MOST_TOLD = 12
 
 
+def is_whole(value):
+    """Tell whether a value is an integer; True and False are none."""
+    return isinstance(value, int) and not isinstance(value, bool)
+
+
 def is_integer(value, low, high):
-    """Tell whether a value is an integer from low to high; True and False are none."""
-    return isinstance(value, int) and not isinstance(value, bool) and low <= value <= high
+    """Tell whether a value is an integer from low to high."""
+    return is_whole(value) and low <= value <= high
 
 
 def is_rising(value, high):
@@ -152,7 +157,7 @@ def room_masks(nest):
 
 
 def all_doors(rooms):
-    """Return the mask of all doors."""
+    """Return the mask of all doors, given by anything with one item for each of them."""
     return (1 << len(rooms)) - 1
 
 
@@ -210,3 +215,8 @@ def ratio(top, bottom):
     """Return the ratio of an integer to a positive one."""
     common = gcd(top, bottom)
     return top // common, bottom // common
+
+
+def plus(one, other):
+    """Return the sum of two ratios."""
+    return ratio(one[0] * other[1] + other[0] * one[1], one[1] * other[1])

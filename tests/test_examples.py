@@ -1,8 +1,12 @@
 """The examples of the interface, as the document writes them."""
 
+import doctest
 import unittest
+from pathlib import Path
 
 from countdoors import errors
+
+README = Path(__file__).resolve().parent.parent / "README.md"
 
 EXAMPLES = '''
 >>> from countdoors.nests import around, at_once, depths, free_numbers, inside, mixings, sizes
@@ -68,6 +72,27 @@ raises BadRow
 >>> from countdoors.allrows import mean_paid, orders_in_all, rows_by_rounds, rows_by_stays
 >>> [rows_by_stays(3), rows_by_rounds(3), orders_in_all(4), mean_paid(3)]
 [(0, 2, 4), (4, 2, 0, 0), 24, (1, 3)]
+>>> from countdoors.sides import rows_as_nests, side_count, side_ends, side_numbers, side_order, side_ready, turned_pairs
+>>> lefts, rights = ((0,), (0, 1), (0, 1, 2)), ((0, 1, 2), (0,), (0,))
+>>> [side_count(lefts, rights), side_order(lefts, rights), side_ready(lefts, rights, (2,)), side_ends(lefts, rights), side_numbers((2, 0, 1)), turned_pairs((2, 0, 1)), rows_as_nests(((0,), (1,)))]
+[3, (0, 1, 2), (0,), ((0, 1, 2), (0, 2)), (((0,), (1,), (0,)), ((1,), (1,), (0,))), 2, ((1, None), ((0,), (1,)))]
+>>> from countdoors.costs import least_cost, mean_cost, shows_cost_paper
+>>> nest, numbers = (2, 2, None), ((0,), (0,), (1,))
+>>> paper = (((), 14), ((0,), 9), ((0, 1, 2), 0), ((0, 2), 3), ((1,), 21), ((1, 2), 15))
+>>> [least_cost(nest, numbers, (5, 1, 3)), mean_cost(nest, numbers, (5, 1, 3)), shows_cost_paper(nest, numbers, (5, 1, 3), paper)]
+[(14, (0, 2, 1)), (18, 1), True]
+>>> from countdoors.openers import all_chance, end_chances, mean_open, order_chance
+>>> nest, numbers = (2, 2, None), ((0,), (0,), (1,))
+>>> [all_chance(nest, numbers), end_chances(nest, numbers), mean_open(nest, numbers), order_chance(nest, numbers, (0, 2, 1))]
+[(1, 2), (((0, 1), (1, 2)), ((0, 1, 2), (1, 2))), (5, 2), (1, 4)]
+>>> from countdoors.shutting import farthest_states, joined_states, parts_of_states, steps_between, way_between
+>>> nest, numbers = (2, 2, None), ((0,), (0,), (1,))
+>>> [steps_between(nest, numbers, (), (0, 1, 2)), way_between(nest, numbers, (), (2,)), joined_states(nest, numbers, (1,)), farthest_states(nest, numbers, ()), parts_of_states(nest, ((0,), (0,), (7,)))]
+[3, (0, 2, 0), 8, (3, ((0, 1, 2), (2,))), (4, 4)]
+>>> from countdoors.desk import Desk
+>>> desk = Desk((2, 2, None), ((0,), (0,), (1,)))
+>>> [desk.run("ways"), desk.run("open 0"), desk.run("ready"), desk.run("open 1"), desk.run("lost"), desk.run("add 2 2"), desk.run("ways"), desk.state, desk.steps, desk.undo(), desk.numbers[2]]
+['2', None, '1 2', None, '2', None, '1', (0, 1), ('open 0', 'open 1', 'add 2 2'), None, (1,)]
 '''
 
 
@@ -99,6 +124,13 @@ class Examples(unittest.TestCase):
                 answers += 1
                 self.assertEqual(answer(code, names), line)
         self.assertEqual(answers, EXAMPLES.count("\n") - EXAMPLES.count(">>> ") - 1)
+
+    def test_readme(self):
+        text = README.read_text(encoding="utf-8").replace("```", "")
+        runner = doctest.DocTestRunner()
+        runner.run(doctest.DocTestParser().get_doctest(text, {}, "README.md", None, None))
+        self.assertEqual(runner.failures, 0)
+        self.assertGreater(runner.tries, 5)
 
 
 if __name__ == "__main__":

@@ -51,6 +51,25 @@ INTERFACE = {
         "stays(row)", "leavers(row)", "leaving_nest(row)", "leave_count(row)", "is_leaving(row, order)",
         "payments(row)", "rounds(row)", "ring_payments(ring)", "ring_count(ring)",
     ],
+    "sides": [
+        "side_count(lefts, rights)", "turned_pairs(order)", "side_order(lefts, rights)",
+        "side_ready(lefts, rights, state)", "side_numbers(order)", "wide_sides(lefts, rights, orders)",
+        "rows_as_nests(lefts)", "side_ends(lefts, rights)",
+    ],
+    "costs": [
+        "least_cost(nest, numbers, prices)", "mean_cost(nest, numbers, prices)", "cost_paper(nest, numbers, prices)",
+        "shows_cost_paper(nest, numbers, prices, value)",
+    ],
+    "openers": [
+        "all_chance(nest, numbers)", "mean_open(nest, numbers)", "order_chance(nest, numbers, order)",
+        "end_chances(nest, numbers)",
+    ],
+    "shutting": [
+        "steps_between(nest, numbers, one, other)", "way_between(nest, numbers, one, other)",
+        "joined_states(nest, numbers, state)", "farthest_states(nest, numbers, state)",
+        "parts_of_states(nest, numbers)",
+    ],
+    "desk": ["Desk(nest, numbers)"],
     "allrows": ["rows_by_stays(n)", "rows_by_rounds(n)", "orders_in_all(n)", "mean_paid(n)"],
 }
 

@@ -13,7 +13,7 @@ FILES = sorted(PACKAGE.glob("*.py"))
 CALLED = set("""len range enumerate zip min max sum abs sorted reversed int str bool list tuple dict set
 isinstance any all divmod""".split())
 LIBRARY = {"math": {"comb", "factorial", "gcd"}}
-METHODS = {"append", "bit_length", "get", "index", "items", "join", "values"}
+METHODS = {"append", "bit_length", "get", "index", "items", "join", "split", "values"}
 BARRED = set("""register mro elements open input law type typing enum compile copyright dir eval exec exit
 globals help id license locals quit vars""".split())
 STATEMENTS = (
@@ -36,6 +36,13 @@ def functions(tree):
 
 def imports(tree):
     return [node for node in tree.body if isinstance(node, ast.ImportFrom)]
+
+
+def own_methods(tree):
+    return {
+        node.name for kind in tree.body if isinstance(kind, ast.ClassDef)
+        for node in kind.body if isinstance(node, ast.FunctionDef)
+    }
 
 
 def bound_names(tree):
@@ -63,7 +70,8 @@ class Language(unittest.TestCase):
         for path, tree in trees():
             for node in functions(tree):
                 self.assertLessEqual(node.end_lineno - node.lineno + 1, 40, f"{path.name} {node.name}")
-                self.assertEqual(node.decorator_list, [])
+                decorators = [ast.unparse(decorator) for decorator in node.decorator_list]
+                self.assertIn(decorators, [[], ["property"]])
 
     def test_module_level(self):
         for path, tree in trees():
@@ -110,7 +118,7 @@ class Language(unittest.TestCase):
                     self.assertNotIsInstance(node.value, (float, complex, bytes), place)
 
     def test_names(self):
-        builtin_names = set(dir(builtins))
+        builtin_names = set(dir(builtins)) - {"_"}
         for path, tree in trees():
             with self.subTest(path.name):
                 bound = bound_names(tree)
@@ -120,13 +128,22 @@ class Language(unittest.TestCase):
                 self.assertEqual([name for name in kept if bound.count(name) > 1], [])
                 for node in ast.walk(tree):
                     if isinstance(node, ast.Name) and node.id in builtin_names and node.id not in bound:
-                        self.assertIn(node.id, CALLED | {"ValueError"})
+                        self.assertIn(node.id, CALLED | {"ValueError", "property"})
 
     def test_methods(self):
         for path, tree in trees():
             for node in ast.walk(tree):
                 if isinstance(node, ast.Call) and isinstance(node.func, ast.Attribute):
-                    self.assertIn(node.func.attr, METHODS, f"{path.name}:{node.lineno}")
+                    allowed = own_methods(tree) if ast.unparse(node.func.value) == "self" else METHODS
+                    self.assertIn(node.func.attr, allowed, f"{path.name}:{node.lineno}")
+
+    def test_own_methods_and_attributes(self):
+        own = set().union(*[own_methods(tree) for _, tree in trees()])
+        of_values = {name for value in ("", b"", 0, [], {}, set(), ()) for name in dir(value)}
+        self.assertEqual(own & (of_values - {"__init__"}), set())
+        for path, tree in trees():
+            stored = {node.attr for node in ast.walk(tree) if isinstance(node, ast.Attribute) and isinstance(node.ctx, ast.Store)}
+            self.assertEqual(stored & own, set(), path.name)
 
     def test_sets_are_sorted_or_counted_on_the_spot(self):
         for path, tree in trees():

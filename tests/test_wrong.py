@@ -4,7 +4,8 @@ import copy
 import unittest
 
 from countdoors import (
-    allrows, errors, hands, keepers, leaving, listing, nests, nesttext, orders, states, sums, telling, times, wishing,
+    allrows, costs, desk, errors, hands, keepers, leaving, listing, nests, nesttext, openers, orders, shutting, sides,
+    states, sums, telling, times, wishing,
 )
 
 from tests import wrong
@@ -25,6 +26,9 @@ FLAG_ARG = (True, wrong.FLAGS)
 ROW_ARG = ((9, 2, 5, 1, 8, 3, 7), wrong.ROWS)
 N_ARG = (9, wrong.MANY)
 VALUE_ARG = (None, [])
+LEFTS_ARG = (((0,), (0, 1), (0, 1, 2)), wrong.SIDES)
+RIGHTS_ARG = (((0, 1, 2), (0,), (0,)), wrong.RIGHTS)
+PRICES_ARG = ((0, 1000, 3), wrong.PRICES)
 HOUSE = [NEST_ARG, NUMBERS_ARG]
 CALLS = [
     (nests.inside, [NEST_ARG, DOOR_ARG]),
@@ -100,6 +104,28 @@ CALLS = [
     (allrows.rows_by_rounds, [N_ARG]),
     (allrows.orders_in_all, [N_ARG]),
     (allrows.mean_paid, [N_ARG]),
+    (sides.side_count, [LEFTS_ARG, RIGHTS_ARG]),
+    (sides.side_order, [LEFTS_ARG, RIGHTS_ARG]),
+    (sides.side_ready, [LEFTS_ARG, RIGHTS_ARG, STATE_ARG]),
+    (sides.side_numbers, [((2, 0, 1), wrong.ROW_ORDERS)]),
+    (sides.turned_pairs, [((2, 0, 1), wrong.ROW_ORDERS)]),
+    (sides.side_ends, [LEFTS_ARG, RIGHTS_ARG]),
+    (sides.wide_sides, [LEFTS_ARG, RIGHTS_ARG, TOLD_ARG]),
+    (sides.rows_as_nests, [LEFTS_ARG]),
+    (costs.least_cost, [*HOUSE, PRICES_ARG]),
+    (costs.mean_cost, [*HOUSE, PRICES_ARG]),
+    (costs.cost_paper, [*HOUSE, PRICES_ARG]),
+    (costs.shows_cost_paper, [*HOUSE, PRICES_ARG, VALUE_ARG]),
+    (openers.all_chance, HOUSE),
+    (openers.end_chances, HOUSE),
+    (openers.mean_open, HOUSE),
+    (openers.order_chance, [*HOUSE, ORDER_ARG]),
+    (shutting.steps_between, [*HOUSE, STATE_ARG, STATE_ARG]),
+    (shutting.way_between, [*HOUSE, STATE_ARG, STATE_ARG]),
+    (shutting.joined_states, [*HOUSE, STATE_ARG]),
+    (shutting.farthest_states, [*HOUSE, STATE_ARG]),
+    (shutting.parts_of_states, HOUSE),
+    (desk.Desk, HOUSE),
 ]
 
 

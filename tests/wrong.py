@@ -88,6 +88,23 @@ LEAVINGS = plain("BadOrder", [
     (3, 1, 5, "2"), (3, 1, 5, None), (3, 1, 5, (2,)), (3, 1, 5, [2]), (3, 1, 5, -2), (3, 1, 5, 7), (3, 1, 5, HUGE),
     [3, 1, 5, 2], "3152", (0, 1, 2, 3, 4, 5, 6), (0, 1, 2, 3),
 ])
+# For rows of three doors: lefts, and rights beside such lefts.
+SIDES = [(value, "BadSides", fields) for value, _, fields in NUMBERS if len(value if isinstance(value, tuple) else ()) == 3]
+SIDES = SIDES + indexed("BadSides", [
+    *[(value, None) for value in [None, *[odd for odd in ODD if not isinstance(odd, tuple)], (), [(0,)] * 3, ((0,),) * 10]],
+    ((0,), 0), ((((((),),),),), 0), (((0,), 0), 1), (((0,),) * 8 + ((9,),), 8),
+])
+RIGHTS = [row for row in SIDES if isinstance(row[0], tuple) and len(row[0]) == 3] + indexed("BadSides", [
+    (value, None) for value in [None, *ODD, (), ((0,),), ((0,),) * 2, ((0,),) * 4, ((9,),) * 4, ((0,),) * 10, [(0,)] * 3]
+])
+ROW_ORDERS = plain("BadOrder", [
+    None, *ODD, 0, (), (1,), (0, 0), (0, 2), (1, 2), (-1, 0), (0, 1, 3), (0, "1"), (0, None), (0, True), (False, 1), (0, (1,)),
+    (0, [1]), (0, {}), (0, HUGE), tuple(range(10)), [0, 1], "01", ((0,),), (0, 1, 2, 2), (None,), ("0",),
+])
+PRICES = plain("BadPrices", [
+    None, *ODD, 0, (), (0,), (0, 0), (0, 0, 0, 0), (0, 0, 1001), (-1, 0, 0), (0, HUGE, 0), (0, True, 0), (False, 0, 0),
+    (0, 0, None), (0, 0, "1"), (0, (1,), 0), (0, [1], 0), (0, {}, 0), [0, 0, 0], "000", ((0, 0, 0),),
+])
 # Values that are no answer, whatever the question was.
 NO_ANSWERS = [*ODD, (), [], (0,), (None,), ("0",), 3, 9, "None", ((0, 1, 2),), (0, 1), (0, 1, 2, 3), [0, 1, 2], (0, 1, "2"),
               (False, True, 2), (False, 1, 2), (0, 0, 0), (0, 1, []), {"a": [1]}, (0, 1, HUGE)]
