@@ -70,7 +70,7 @@ class Desk:
         door = read_digit(words, 1, list(range(len(self._nest))))
         some = numbers[door]
         if words[0] == "add":
-            others = [number for number in range(LAST_NUMBER + 1) if number not in some]
+            others = [other for other in range(LAST_NUMBER + 1) if other not in some]
             number = read_digit(words, 2, others)
             some = tuple(sorted(some + (number,)))
         else:

@@ -53,7 +53,7 @@ def rounds(row):
     """
     check_row(row)
     lower = lower_ones(row)
-    found = [None if beside is None else 1 for beside in lower]
+    found = [None if at is None else 1 for at in lower]
     # By rising heights the round of each one is known when its turn comes.
     for place in leaving_places(row):
         beside = lower[place]
