@@ -8,7 +8,7 @@ Only the checks raise errors; all other functions here take arguments that are c
 from math import factorial, gcd
 
 from countdoors.errors import (
-    BadCount, BadDoor, BadNest, BadNumbers, BadOrder, BadRanks, BadState, BadTold,
+    BadCount, BadDoor, BadNest, BadNumbers, BadOrder, BadRanks, BadState, BadTold, TooMany,
 )
 
 MOST_DOORS = 9
@@ -122,6 +122,12 @@ def check_count(value, low, high):
         raise BadCount("a count is an integer within its limits")
 
 
+def check_few(nest, numbers, most):
+    """Raise TooMany if more than so many orders are allowed."""
+    if ways_left(room_masks(nest), numbers, 0) > most:
+        raise TooMany(most)
+
+
 def ones(mask):
     """Return how many doors are in a mask."""
     many = 0
@@ -209,6 +215,15 @@ def least_rest(rooms, numbers, mask):
         rest = rest + (door,)
         mask = mask | 1 << door
     return rest
+
+
+def allowed_orders(rooms, numbers):
+    """Return the ascending list of all allowed orders."""
+    safe = [safe_at(rooms, numbers, mask) for mask in range(1 << len(rooms))]
+    begun = [()]
+    for _ in rooms:
+        begun = [order + (door,) for order in begun for door in safe[mask_of(order)]]
+    return begun
 
 
 def ratio(top, bottom):

@@ -1,8 +1,8 @@
 """The allowed orders one by one, and numbers for more orders or doors."""
 
 from countdoors.common import (
-    LAST_NUMBER, MOST_DOORS, check_both, check_door, check_order, is_integer, is_rising, least_rest,
-    mask_of, ready_at, room_masks, safe_at, ways_left,
+    LAST_NUMBER, MOST_DOORS, allowed_orders, check_both, check_door, check_few, check_order, is_integer, is_rising,
+    least_rest, mask_of, ready_at, room_masks, safe_at, ways_left,
 )
 from countdoors.errors import BadIndex, BadNumbers, TooMany
 from countdoors.orders import allows
@@ -78,14 +78,8 @@ def ready_length(rooms, numbers, order):
 def all_orders(nest, numbers):
     """Return the list of all allowed orders, ascending."""
     check_both(nest, numbers)
-    rooms = room_masks(nest)
-    if ways_left(rooms, numbers, 0) > MOST_ORDERS:
-        raise TooMany(MOST_ORDERS)
-    safe = [safe_at(rooms, numbers, mask) for mask in range(1 << len(nest))]
-    begun = [()]
-    for _ in nest:
-        begun = [order + (door,) for order in begun for door in safe[mask_of(order)]]
-    return begun
+    check_few(nest, numbers, MOST_ORDERS)
+    return allowed_orders(room_masks(nest), numbers)
 
 
 def widened(nest, numbers, door, number):

@@ -93,6 +93,26 @@ raises BadRow
 >>> desk = Desk((2, 2, None), ((0,), (0,), (1,)))
 >>> [desk.run("ways"), desk.run("open 0"), desk.run("ready"), desk.run("open 1"), desk.run("lost"), desk.run("add 2 2"), desk.run("ways"), desk.state, desk.steps, desk.undo(), desk.numbers[2]]
 ['2', None, '1 2', None, '2', None, '1', (0, 1), ('open 0', 'open 1', 'add 2 2'), None, (1,)]
+>>> from countdoors.words import order_of, words_of
+>>> nest = (2, 2, None)
+>>> [words_of(nest, (1, 2, 0)), order_of(nest, (0, 0, 2), ((), (), (1, 0), (2, 2, 2)))]
+[((), (), (1, 0), (2, 2, 2)), (1, 0, 2)]
+>>> from countdoors.swapping import beside, joined_parts, swaps, to_allowed, turned_between
+>>> nest, numbers = (2, 2, None), ((0,), (0,), (1,))
+>>> [beside(nest, numbers, (0, 1, 2)), swaps(nest, numbers, (0, 2, 1), (1, 2, 0)), joined_parts(nest, numbers), to_allowed(nest, numbers, (0, 1, 2)), turned_between(nest, (0, 2, 1), (1, 2, 0))]
+[((0, 2, 1),), None, (1, 1), (1, (0, 2, 1)), 3]
+>>> from countdoors.renaming import alike_doors, are_alike, least_form, orders_alike, renamings
+>>> nest, numbers = (2, 2, None), ((0,), (0,), (1,))
+>>> [renamings(nest, numbers), orders_alike(nest, numbers), alike_doors(nest, numbers), least_form((None, 2, None), ((0,),) * 3), are_alike((nest, numbers), (nest, ((0,), (0,), (2,))))]
+[2, 1, ((0, 1), (2,)), ((1, None, None), ((0,), (0,), (0,))), False]
+>>> from countdoors.parallel import greedy_state, least_rounds, shows_rounds
+>>> nest, numbers = (2, 2, None), ((0,), (0,), (1,))
+>>> [least_rounds(nest, numbers, ()), shows_rounds(nest, numbers, (), ((0,), (1, 2))), greedy_state(nest, numbers, ())]
+[2, True, (0, 1)]
+>>> from countdoors.buying import bought, most_orders
+>>> nest, table = (2, 2, None), ((1,), (2,), (4, 3, 9))
+>>> [bought(nest, table, 3), most_orders(nest, table, 6), bought(nest, table, 7)]
+[(10, ((0,), (0,), (0, 1))), (2, ((0,), (0,), (1,))), None]
 '''
 
 

@@ -70,6 +70,20 @@ INTERFACE = {
         "parts_of_states(nest, numbers)",
     ],
     "desk": ["Desk(nest, numbers)"],
+    "words": ["words_of(nest, order)", "order_of(nest, some, words)"],
+    "swapping": [
+        "beside(nest, numbers, order)", "swaps(nest, numbers, one, other)", "joined_parts(nest, numbers)",
+        "turned_between(nest, one, other)", "to_allowed(nest, numbers, order)",
+    ],
+    "renaming": [
+        "renamings(nest, numbers)", "orders_alike(nest, numbers)", "least_form(nest, numbers)", "are_alike(one, other)",
+        "alike_doors(nest, numbers)",
+    ],
+    "parallel": [
+        "least_rounds(nest, numbers, state)", "rounds_plan(nest, numbers, state)",
+        "shows_rounds(nest, numbers, state, value)", "greedy_state(nest, numbers, state)",
+    ],
+    "buying": ["bought(nest, table, least)", "most_orders(nest, table, most)"],
     "allrows": ["rows_by_stays(n)", "rows_by_rounds(n)", "orders_in_all(n)", "mean_paid(n)"],
 }
 

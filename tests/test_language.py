@@ -12,13 +12,13 @@ PACKAGE = Path(__file__).resolve().parent.parent / "countdoors"
 FILES = sorted(PACKAGE.glob("*.py"))
 CALLED = set("""len range enumerate zip min max sum abs sorted reversed int str bool list tuple dict set
 isinstance any all divmod""".split())
-LIBRARY = {"math": {"comb", "factorial", "gcd"}}
+LIBRARY = {"itertools": {"combinations"}, "math": {"comb", "factorial", "gcd"}}
 METHODS = {"append", "bit_length", "get", "index", "items", "join", "split", "values"}
 BARRED = set("""register mro elements open input law type typing enum compile copyright dir eval exec exit
 globals help id license locals quit vars""".split())
 STATEMENTS = (
     ast.Assign, ast.AugAssign, ast.If, ast.While, ast.For, ast.Return, ast.Break, ast.Continue, ast.Raise,
-    ast.Expr, ast.FunctionDef, ast.ClassDef, ast.ImportFrom,
+    ast.Expr, ast.FunctionDef, ast.ClassDef, ast.ImportFrom, ast.Try,
 )
 UNUSED = (
     ast.GeneratorExp, ast.Lambda, ast.Await, ast.Yield, ast.YieldFrom, ast.Set,
@@ -152,6 +152,19 @@ class Language(unittest.TestCase):
             sets = [node for node in ast.walk(tree) if isinstance(node, ast.SetComp)]
             sets += [node for node in calls if node.func.id == "set"]
             self.assertEqual([node.lineno for node in sets if node not in taken], [], path.name)
+
+    def test_own_errors_alone_are_caught(self):
+        for path, tree in trees():
+            for node in ast.walk(tree):
+                if isinstance(node, ast.Try):
+                    caught = [ast.unparse(handler.type) for handler in node.handlers]
+                    self.assertEqual((caught, node.orelse, node.finalbody), (["DoorError"], [], []), path.name)
+
+    def test_combinations_are_iterated_at_once(self):
+        for path, tree in trees():
+            calls = [node for node in ast.walk(tree) if isinstance(node, ast.Call) and ast.unparse(node.func) == "combinations"]
+            loops = [node.iter for node in ast.walk(tree) if isinstance(node, (ast.For, ast.comprehension))]
+            self.assertEqual([node.lineno for node in calls if node not in loops], [], path.name)
 
     def test_percent_signs(self):
         for path, tree in trees():

@@ -4,8 +4,8 @@ import copy
 import unittest
 
 from countdoors import (
-    allrows, costs, desk, errors, hands, keepers, leaving, listing, nests, nesttext, openers, orders, shutting, sides,
-    states, sums, telling, times, wishing,
+    allrows, buying, costs, desk, errors, hands, keepers, leaving, listing, nests, nesttext, openers, orders, parallel,
+    renaming, shutting, sides, states, sums, swapping, telling, times, wishing, words,
 )
 
 from tests import wrong
@@ -29,6 +29,10 @@ VALUE_ARG = (None, [])
 LEFTS_ARG = (((0,), (0, 1), (0, 1, 2)), wrong.SIDES)
 RIGHTS_ARG = (((0, 1, 2), (0,), (0,)), wrong.RIGHTS)
 PRICES_ARG = ((0, 1000, 3), wrong.PRICES)
+RANKS_ARG = ((0, 0, 2), wrong.RANKS)
+WORDS_ARG = (((), (), (1, 0), (2, 2, 2)), wrong.WORDS)
+PAIR_ARG = ((NEST, SOME), wrong.PAIRS)
+TABLE_ARG = (((1,), (2,), (4, 1000, 0)), wrong.TABLES)
 HOUSE = [NEST_ARG, NUMBERS_ARG]
 CALLS = [
     (nests.inside, [NEST_ARG, DOOR_ARG]),
@@ -47,7 +51,7 @@ CALLS = [
     (orders.order_inside, [NEST_ARG, ORDER_ARG, DOOR_ARG]),
     (orders.allows, [NEST_ARG, NUMBERS_ARG, ORDER_ARG]),
     (orders.order_count, [NEST_ARG, NUMBERS_ARG]),
-    (orders.with_ranks, [NEST_ARG, ((0, 0, 2), wrong.RANKS)]),
+    (orders.with_ranks, [NEST_ARG, RANKS_ARG]),
     (orders.put_in, [NEST_ARG, ORDER_ARG, DOOR_ARG, (1, wrong.RANK_OF_2)]),
     (listing.order_number, [*HOUSE, ORDER_ARG]),
     (listing.order_at, [*HOUSE, (3, wrong.INDEXES)]),
@@ -126,6 +130,24 @@ CALLS = [
     (shutting.farthest_states, [*HOUSE, STATE_ARG]),
     (shutting.parts_of_states, HOUSE),
     (desk.Desk, HOUSE),
+    (words.words_of, [NEST_ARG, ORDER_ARG]),
+    (words.order_of, [NEST_ARG, RANKS_ARG, WORDS_ARG]),
+    (swapping.beside, [*HOUSE, ORDER_ARG]),
+    (swapping.swaps, [*HOUSE, ORDER_ARG, ORDER_ARG]),
+    (swapping.joined_parts, HOUSE),
+    (swapping.turned_between, [NEST_ARG, ORDER_ARG, ORDER_ARG]),
+    (swapping.to_allowed, [*HOUSE, ORDER_ARG]),
+    (renaming.renamings, HOUSE),
+    (renaming.orders_alike, HOUSE),
+    (renaming.least_form, HOUSE),
+    (renaming.are_alike, [PAIR_ARG, PAIR_ARG]),
+    (renaming.alike_doors, HOUSE),
+    (parallel.least_rounds, [*HOUSE, STATE_ARG]),
+    (parallel.rounds_plan, [*HOUSE, STATE_ARG]),
+    (parallel.shows_rounds, [*HOUSE, STATE_ARG, VALUE_ARG]),
+    (parallel.greedy_state, [*HOUSE, STATE_ARG]),
+    (buying.bought, [NEST_ARG, TABLE_ARG, COUNT_ARG]),
+    (buying.most_orders, [NEST_ARG, TABLE_ARG, (10000, wrong.PAID)]),
 ]
 
 
@@ -178,9 +200,14 @@ class Wrong(unittest.TestCase):
     def test_too_many_behind_all(self):
         nine = (None,) * 9
         zeros = ((0,),) * 9
+        house = [(nine, wrong.NESTS), (zeros, wrong.indexed("BadNumbers", [(None, None), (zeros[1:], None), (zeros[:8] + ((9,),), 8)]))]
+        order = (tuple(range(9)), wrong.ORDERS)
         too_many = [
-            (listing.all_orders, [(nine, wrong.NESTS), (zeros, [])], 2000),
-            (listing.closed_in, [(nine, wrong.NESTS), (zeros, []), ((0,), wrong.NEW_NUMBERS)], 9),
+            (listing.all_orders, house, 2000),
+            (listing.closed_in, [*house, ((0,), wrong.NEW_NUMBERS)], 9),
+            (swapping.swaps, [*house, order, order], 2000),
+            (swapping.joined_parts, house, 2000),
+            (swapping.to_allowed, [*house, order], 2000),
         ]
         for function, arguments, most in too_many:
             self.expect(function, [right for right, _ in arguments], "TooMany", {"most": most})
@@ -189,7 +216,7 @@ class Wrong(unittest.TestCase):
                     values = [right for right, _ in arguments]
                     values[at] = value
                     self.expect(function, values, name, fields)
-            self.expect(function, [nine, zeros[:8] + ((9,),), *[(0,) for _ in arguments[2:]]], "BadNumbers", {"index": 8})
+            self.expect(function, [nine, zeros[:8] + ((9,),), *[(9,) for _ in arguments[2:]]], "BadNumbers", {"index": 8})
 
 
 if __name__ == "__main__":
