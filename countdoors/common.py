@@ -54,6 +54,13 @@ def are_orders(many, value):
     return all([order < further for order, further in zip(value, value[1:])])
 
 
+def is_ratio(value):
+    """Tell whether a value is a ratio."""
+    if not isinstance(value, tuple) or len(value) != 2 or not all([is_whole(item) for item in value]):
+        return False
+    return value[1] > 0 and gcd(value[0], value[1]) == 1
+
+
 def check_nest(nest):
     """Raise BadNest unless a value is a nest."""
     if not isinstance(nest, tuple) or not 1 <= len(nest) <= MOST_DOORS:

@@ -113,6 +113,25 @@ raises BadRow
 >>> nest, table = (2, 2, None), ((1,), (2,), (4, 3, 9))
 >>> [bought(nest, table, 3), most_orders(nest, table, 6), bought(nest, table, 7)]
 [(10, ((0,), (0,), (0, 1))), (2, ((0,), (0,), (1,))), None]
+>>> from countdoors.mixtures import goal_paper, mixture, shows_goal_paper
+>>> nest, numbers = (2, 2, None), ((0,), (0,), (1,))
+>>> [mixture(nest, numbers, ((1, 1),) * 3), goal_paper(nest, numbers, ((1, 1),) * 3), shows_goal_paper(nest, numbers, ((0, 1),) * 3, ((0, 1), (0, 1), (1, 1)))]
+[(((0, 2, 1), (1, 2)), ((1, 2, 0), (1, 2))), None, True]
+>>> from countdoors.missing import least_missing, made_safe, mended, missing, orders_by_missing
+>>> nest, numbers = (2, 2, None), ((0,), (0,), (1,))
+>>> [missing(nest, numbers, (0, 1, 2)), orders_by_missing(nest, numbers), mended(nest, numbers, (0, 1, 2)), made_safe(nest, numbers), least_missing(nest, ((0,), (), (0,)))]
+[((2, 2),), (2, 4, 0, 0), ((0,), (0,), (1, 2)), ((0,), (0,), (1, 2)), (1, (2, 0, 1))]
+>>> from countdoors.weighted import weighted_ends, weighted_first
+>>> nest, numbers = (2, 2, None), ((0,), (0,), (1,))
+>>> [weighted_ends(nest, numbers, (1, 3, 1)), weighted_first(nest, numbers, (1, 3, 1), 2, 0)]
+[(((0, 1), (9, 16)), ((0, 1, 2), (7, 16))), (3, 8)]
+>>> from countdoors.gaps import gap_chances, mean_gap
+>>> nest, numbers = (2, 2, None), ((0,), (0,), (1,))
+>>> [gap_chances(nest, numbers, 0, 2), mean_gap(nest, numbers)]
+[((-1, (1, 2)), (1, (1, 2))), (4, 3)]
+>>> from countdoors.allnests import mixings_in_all, nest_count, nests_by_depth, nests_by_rooms
+>>> [nest_count(3), nests_by_rooms(3), nests_by_depth(3), mixings_in_all(2)]
+[6, (2, 3, 1), (1, 4, 1), 3]
 '''
 
 

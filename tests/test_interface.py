@@ -84,6 +84,17 @@ INTERFACE = {
         "shows_rounds(nest, numbers, state, value)", "greedy_state(nest, numbers, state)",
     ],
     "buying": ["bought(nest, table, least)", "most_orders(nest, table, most)"],
+    "mixtures": [
+        "mixture(nest, numbers, goals)", "goal_paper(nest, numbers, goals)",
+        "shows_mixture(nest, numbers, goals, value)", "shows_goal_paper(nest, numbers, goals, value)",
+    ],
+    "missing": [
+        "missing(nest, numbers, order)", "orders_by_missing(nest, numbers)", "mended(nest, numbers, order)",
+        "made_safe(nest, numbers)", "least_missing(nest, numbers)",
+    ],
+    "weighted": ["weighted_ends(nest, numbers, weights)", "weighted_first(nest, numbers, weights, one, other)"],
+    "gaps": ["gap_chances(nest, numbers, one, other)", "mean_gap(nest, numbers)"],
+    "allnests": ["nest_count(n)", "mixings_in_all(n)", "nests_by_rooms(n)", "nests_by_depth(n)"],
     "allrows": ["rows_by_stays(n)", "rows_by_rounds(n)", "orders_in_all(n)", "mean_paid(n)"],
 }
 

@@ -13,7 +13,7 @@ FILES = sorted(PACKAGE.glob("*.py"))
 CALLED = set("""len range enumerate zip min max sum abs sorted reversed int str bool list tuple dict set
 isinstance any all divmod""".split())
 LIBRARY = {"itertools": {"combinations"}, "math": {"comb", "factorial", "gcd"}}
-METHODS = {"append", "bit_length", "get", "index", "items", "join", "split", "values"}
+METHODS = {"append", "bit_length", "count", "get", "index", "items", "join", "split", "values"}
 BARRED = set("""register mro elements open input law type typing enum compile copyright dir eval exec exit
 globals help id license locals quit vars""".split())
 STATEMENTS = (

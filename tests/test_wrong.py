@@ -4,8 +4,9 @@ import copy
 import unittest
 
 from countdoors import (
-    allrows, buying, costs, desk, errors, hands, keepers, leaving, listing, nests, nesttext, openers, orders, parallel,
-    renaming, shutting, sides, states, sums, swapping, telling, times, wishing, words,
+    allnests, allrows, buying, costs, desk, errors, gaps, hands, keepers, leaving, listing, missing, mixtures, nests,
+    nesttext, openers, orders, parallel, renaming, shutting, sides, states, sums, swapping, telling, times, weighted,
+    wishing, words,
 )
 
 from tests import wrong
@@ -33,6 +34,8 @@ RANKS_ARG = ((0, 0, 2), wrong.RANKS)
 WORDS_ARG = (((), (), (1, 0), (2, 2, 2)), wrong.WORDS)
 PAIR_ARG = ((NEST, SOME), wrong.PAIRS)
 TABLE_ARG = (((1,), (2,), (4, 1000, 0)), wrong.TABLES)
+GOALS_ARG = (((1, 1), (3, 2), (1, 2)), wrong.GOALS)
+WEIGHTS_ARG = ((1, 100, 7), wrong.WEIGHTS)
 HOUSE = [NEST_ARG, NUMBERS_ARG]
 CALLS = [
     (nests.inside, [NEST_ARG, DOOR_ARG]),
@@ -148,6 +151,23 @@ CALLS = [
     (parallel.greedy_state, [*HOUSE, STATE_ARG]),
     (buying.bought, [NEST_ARG, TABLE_ARG, COUNT_ARG]),
     (buying.most_orders, [NEST_ARG, TABLE_ARG, (10000, wrong.PAID)]),
+    (mixtures.mixture, [*HOUSE, GOALS_ARG]),
+    (mixtures.goal_paper, [*HOUSE, GOALS_ARG]),
+    (mixtures.shows_mixture, [*HOUSE, GOALS_ARG, VALUE_ARG]),
+    (mixtures.shows_goal_paper, [*HOUSE, GOALS_ARG, VALUE_ARG]),
+    (missing.missing, [*HOUSE, ORDER_ARG]),
+    (missing.orders_by_missing, HOUSE),
+    (missing.mended, [*HOUSE, ORDER_ARG]),
+    (missing.made_safe, HOUSE),
+    (missing.least_missing, HOUSE),
+    (weighted.weighted_ends, [*HOUSE, WEIGHTS_ARG]),
+    (weighted.weighted_first, [*HOUSE, WEIGHTS_ARG, DOOR_ARG, (0, wrong.OTHER_THAN_2)]),
+    (gaps.gap_chances, [*HOUSE, DOOR_ARG, (0, wrong.OTHER_THAN_2)]),
+    (gaps.mean_gap, HOUSE),
+    (allnests.nest_count, [N_ARG]),
+    (allnests.nests_by_rooms, [N_ARG]),
+    (allnests.nests_by_depth, [N_ARG]),
+    (allnests.mixings_in_all, [N_ARG]),
 ]
 
 
@@ -202,12 +222,19 @@ class Wrong(unittest.TestCase):
         zeros = ((0,),) * 9
         house = [(nine, wrong.NESTS), (zeros, wrong.indexed("BadNumbers", [(None, None), (zeros[1:], None), (zeros[:8] + ((9,),), 8)]))]
         order = (tuple(range(9)), wrong.ORDERS)
+        goals = (((4, 1),) * 9, wrong.GOALS)
         too_many = [
             (listing.all_orders, house, 2000),
             (listing.closed_in, [*house, ((0,), wrong.NEW_NUMBERS)], 9),
             (swapping.swaps, [*house, order, order], 2000),
             (swapping.joined_parts, house, 2000),
             (swapping.to_allowed, [*house, order], 2000),
+            (mixtures.mixture, [*house, goals], 120),
+            (mixtures.goal_paper, [*house, goals], 120),
+            (mixtures.shows_mixture, [*house, goals, (None, [])], 120),
+            (mixtures.shows_goal_paper, [*house, goals, (None, [])], 120),
+            (gaps.gap_chances, [*house, (0, wrong.DOORS_OF_9), (1, wrong.DOORS_OF_9 + wrong.plain("BadDoor", [0]))], 7),
+            (gaps.mean_gap, house, 7),
         ]
         for function, arguments, most in too_many:
             self.expect(function, [right for right, _ in arguments], "TooMany", {"most": most})
